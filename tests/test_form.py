@@ -1,0 +1,245 @@
+"""Holds the package's files against what can be seen by a machine of ../shared/LANGUAGE.md."""
+
+import ast
+import builtins
+import pathlib
+import re
+import unittest
+
+PACKAGE = pathlib.Path(__file__).resolve().parent.parent / "mustmay"
+
+NODES = set("""
+    Module Expr ImportFrom alias FunctionDef ClassDef arguments arg Assign AugAssign If While For Return Break Continue
+    Pass Raise Try ExceptHandler Name Attribute Subscript Slice Constant List Tuple Dict Set BinOp UnaryOp BoolOp
+    Compare IfExp Call keyword Lambda ListComp comprehension JoinedStr FormattedValue Load Store And Or Not USub UAdd
+    Invert Add Sub Mult FloorDiv Mod Pow LShift RShift BitOr BitAnd BitXor Eq NotEq Lt LtE Gt GtE In NotIn Is IsNot
+""".split())
+OWN_NAMES = set("""
+    len range enumerate zip min max sum abs sorted reversed int str bool list tuple dict set isinstance ord repr any
+    all divmod Exception ValueError KeyError IndexError LookupError ZeroDivisionError ArithmeticError OverflowError
+    RuntimeError NotImplementedError AttributeError StopIteration
+""".split())
+OWN_METHODS = set("""
+    append clear copy count endswith extend find get index insert isalnum isalpha isdigit islower isspace isupper items
+    join keys ljust lower lstrip partition pop remove replace reverse rfind rjust rpartition rsplit rstrip setdefault
+    split splitlines startswith strip update upper values zfill bit_length
+""".split())
+OUT_NAMES = set("""
+    register mro elements open input version_info with_traceback add_note attrgetter breakpoint builtins compile
+    copyright credits delattr dir eval exec exit gc getattr globals hasattr help id importlib license locals
+    methodcaller os quit setattr super type vars sys format format_map
+""".split())
+OUT_WORDS = """
+    type typing typing_extensions enum Enum IntEnum StrEnum Flag IntFlag Generic Protocol ABC ABCMeta namedtuple
+    NamedTuple TypedDict TYPE_CHECKING abstractmethod
+""".split()
+OUT_PARTS = ["dataclass", "overload", "contextmanager"]
+UNDERSCORED = ["__init__", "__eq__", "__repr__", "__str__", "__len__", "__all__", "__version__"]
+KINDS = (str, int, list, dict, tuple, set, bytes)
+METHODS_OF_PYTHON = {name for kind in KINDS for name in dir(kind)}
+
+
+def package_files():
+    return sorted(PACKAGE.glob("*.py"))
+
+
+def tree_of(path):
+    return ast.parse(path.read_text(encoding="utf-8"))
+
+
+def names_in(node):
+    if isinstance(node, ast.Name):
+        return [node.id]
+    if isinstance(node, ast.Attribute):
+        return [node.attr]
+    if isinstance(node, (ast.FunctionDef, ast.ClassDef)):
+        return [node.name]
+    if isinstance(node, ast.arg):
+        return [node.arg]
+    return []
+
+
+def faults_of_names(node):
+    faults = []
+    for name in names_in(node):
+        if name.startswith("_") and name not in UNDERSCORED:
+            faults.append(("L12", name))
+        if name in OUT_NAMES:
+            faults.append(("L17", name))
+    if isinstance(node, ast.Name) and node.id in dir(builtins):
+        if node.id not in OWN_NAMES or not isinstance(node.ctx, ast.Load):
+            faults.append(("L8", node.id))
+    if isinstance(node, ast.arg) and (node.arg in dir(builtins) or node.annotation is not None):
+        faults.append(("L15", node.arg))
+    return faults
+
+
+def faults_of_def(node):
+    rest = node.args
+    faults = []
+    if node.decorator_list or rest.vararg or rest.kwarg or rest.kwonlyargs or rest.posonlyargs:
+        faults.append(("L4", node.name))
+    if node.end_lineno - node.lineno + 1 > 40:
+        faults.append(("L10", node.name))
+    return faults
+
+
+def faults_of_class(node):
+    faults = []
+    if node.decorator_list or node.keywords or len(node.bases) > 1:
+        faults.append(("L5", node.name))
+    for part in node.body:
+        if not isinstance(part, (ast.FunctionDef, ast.Pass)):
+            faults.append(("L5", node.name))
+    defined = [part.name for part in node.body if isinstance(part, ast.FunctionDef)]
+    if len(defined) != len(set(defined)):
+        faults.append(("L18", node.name))
+    return faults
+
+
+def faults_of_statement(node):
+    if isinstance(node, ast.ImportFrom):
+        if node.level or not node.module.startswith("mustmay.") or any(name.name == "*" for name in node.names):
+            return [("L2", node.module)]
+    if isinstance(node, (ast.For, ast.While)) and node.orelse:
+        return [("L6", "else")]
+    if isinstance(node, ast.Try) and node.finalbody:
+        return [("L6", "finally")]
+    if isinstance(node, ast.Assign) and len(node.targets) != 1:
+        return [("L6", "targets")]
+    if isinstance(node, ast.ExceptHandler) and node.type is None:
+        return [("L6", "except")]
+    return []
+
+
+def faults_of_value(node):
+    if isinstance(node, ast.Constant) and not (node.value is None or isinstance(node.value, (int, str))):
+        return [("L7", repr(node.value))]
+    if isinstance(node, ast.ListComp) and (len(node.generators) != 1 or len(node.generators[0].ifs) > 1):
+        return [("L7", "comprehension")]
+    if isinstance(node, ast.FormattedValue) and not isinstance(node.value, ast.Name):
+        return [("L7", "f-string")]
+    if isinstance(node, ast.Constant) and isinstance(node.value, str) and "%" in node.value:
+        return [("L27", node.value)]
+    if isinstance(node, ast.Compare):
+        for sign, right in zip(node.ops, node.comparators):
+            if isinstance(sign, (ast.Is, ast.IsNot)) and not (
+                isinstance(right, ast.Constant) and right.value in (None, True, False)
+            ):
+                return [("L20", "is")]
+    if isinstance(node, ast.Call) and isinstance(node.func, ast.Attribute):
+        name = node.func.attr
+        if name in METHODS_OF_PYTHON and name not in OWN_METHODS and name != "__init__":
+            return [("L25", name)]
+    return []
+
+
+def faults_of_node(node):
+    if type(node).__name__ not in NODES:
+        return [("L6, L7", type(node).__name__)]
+    faults = faults_of_names(node) + faults_of_statement(node) + faults_of_value(node)
+    if isinstance(node, ast.FunctionDef):
+        faults += faults_of_def(node)
+    if isinstance(node, ast.ClassDef):
+        faults += faults_of_class(node)
+    return faults
+
+
+def faults_of_lines(text):
+    lines = text.split("\n")
+    faults = [("L10", line) for line in lines if len(line) > 120]
+    if len(lines) - 1 > 400:
+        faults.append(("L10", "file"))
+    if not all(sign == "\n" or " " <= sign <= "~" for sign in text):
+        faults.append(("L14", "sign"))
+    words = re.findall(r"\w+", text)
+    faults += [("L17", word) for word in OUT_WORDS if word in words]
+    faults += [("L17", part) for part in OUT_PARTS if part in text]
+    return faults
+
+
+def top_names(tree):
+    names = []
+    for node in tree.body:
+        if isinstance(node, (ast.FunctionDef, ast.ClassDef)):
+            names.append(node.name)
+        elif isinstance(node, ast.Assign):
+            names.append(node.targets[0].id)
+        elif isinstance(node, ast.ImportFrom):
+            names.extend(part.asname or part.name for part in node.names)
+    return names
+
+
+def class_names(tree):
+    kinds = [node for node in tree.body if isinstance(node, ast.ClassDef)]
+    return [kind.name for kind in kinds] + [
+        part.asname or part.name
+        for node in tree.body if isinstance(node, ast.ImportFrom)
+        for part in node.names
+    ]
+
+
+def local_names(tree):
+    for node in ast.walk(tree):
+        if isinstance(node, ast.arg):
+            yield node.arg
+    for part in tree.body:
+        if isinstance(part, (ast.FunctionDef, ast.ClassDef)):
+            for node in ast.walk(part):
+                if isinstance(node, ast.Name) and isinstance(node.ctx, ast.Store):
+                    yield node.id
+
+
+class FormTest(unittest.TestCase):
+    def test_files(self):
+        names = [path.name for path in PACKAGE.iterdir() if path.name != "__pycache__"]
+        self.assertIn("__init__.py", names)
+        for name in names:
+            self.assertRegex(name, r"^(__init__|[a-z][a-z0-9_]*)\.py$")
+
+    def test_lines(self):
+        for path in package_files():
+            self.assertEqual(faults_of_lines(path.read_text(encoding="utf-8")), [], path.name)
+
+    def test_nodes(self):
+        for path in package_files():
+            for node in ast.walk(tree_of(path)):
+                self.assertEqual(faults_of_node(node), [], (path.name, getattr(node, "lineno", 0)))
+
+    def test_top_of_modules(self):
+        allowed = (ast.FunctionDef, ast.ClassDef, ast.Assign, ast.ImportFrom, ast.Expr)
+        for path in package_files():
+            tree = tree_of(path)
+            names = top_names(tree)
+            self.assertEqual(len(names), len(set(names)), path.name)
+            for place, node in enumerate(tree.body):
+                self.assertIsInstance(node, allowed, path.name)
+                if isinstance(node, ast.Expr):
+                    self.assertEqual(place, 0, path.name)
+                    self.assertIsInstance(node.value, ast.Constant)
+
+    def test_locals_hide_nothing(self):
+        for path in package_files():
+            tree = tree_of(path)
+            hidden = sorted(set(local_names(tree)) & set(class_names(tree)))
+            self.assertEqual(hidden, [], path.name)
+
+    def test_no_name_is_a_method_and_a_value(self):
+        methods = set()
+        values = set()
+        for path in package_files():
+            for node in ast.walk(tree_of(path)):
+                if isinstance(node, ast.ClassDef):
+                    methods |= {part.name for part in node.body if isinstance(part, ast.FunctionDef)}
+                if isinstance(node, ast.Attribute) and isinstance(node.ctx, ast.Store):
+                    values.add(node.attr)
+        self.assertEqual(sorted(methods & values), [])
+
+    def test_a_fault_is_seen(self):
+        for text in ("x = 1.5", "import os", "def f(*a):\n    pass", "a.sort()", "x = {n for n in y}", "del x", "_x = 1"):
+            faults = [fault for node in ast.walk(ast.parse(text)) for fault in faults_of_node(node)]
+            self.assertNotEqual(faults, [], text)
+
+
+if __name__ == "__main__":
+    unittest.main()
