@@ -1,4 +1,4 @@
-"""Holds the package's files against what can be seen by a machine of ../shared/LANGUAGE.md."""
+"""Holds the package's files against a part of ../shared/LANGUAGE.md: not all of its rules are looked at."""
 
 import ast
 import builtins
