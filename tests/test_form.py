@@ -35,6 +35,14 @@ OUT_WORDS = """
 """.split()
 OUT_PARTS = ["dataclass", "overload", "contextmanager"]
 UNDERSCORED = ["__init__", "__eq__", "__repr__", "__str__", "__len__", "__all__", "__version__"]
+KEYWORDS = {
+    "sorted": ["key", "reverse"], "min": ["key", "default"], "max": ["key", "default"], "sum": ["start"],
+    "enumerate": ["start"], "zip": ["strict"],
+}
+WALKED = ["zip", "enumerate", "reversed", "range"]
+WALKED_METHODS = ["items", "keys", "values"]
+WALKERS = ["list", "tuple", "dict", "sorted", "sum", "any", "all", "enumerate", "zip"]
+CHANGES = ["append", "clear", "extend", "insert", "pop", "remove", "reverse", "setdefault", "update"]
 KINDS = (str, int, list, dict, tuple, set, bytes)
 METHODS_OF_PYTHON = {name for kind in KINDS for name in dir(kind)}
 
@@ -158,6 +166,117 @@ def faults_of_lines(text):
     return faults
 
 
+def called(node):
+    if isinstance(node, ast.Call) and isinstance(node.func, ast.Name):
+        return node.func.id
+    return None
+
+
+def is_walked_thing(node):
+    if called(node) in WALKED:
+        return True
+    return isinstance(node, ast.Call) and isinstance(node.func, ast.Attribute) and node.func.attr in WALKED_METHODS
+
+
+def is_walked_by(node, parent):
+    if isinstance(parent, (ast.For, ast.comprehension)):
+        return parent.iter is node
+    if called(parent) in ("enumerate", "zip"):
+        return node in parent.args
+    if called(parent) in WALKERS:
+        return parent.args[0] is node
+    if called(parent) in ("min", "max"):
+        return parent.args == [node]
+    return isinstance(parent, ast.Call) and isinstance(parent.func, ast.Attribute) and parent.func.attr == "join"
+
+
+def is_set_on_the_spot(parent):
+    if isinstance(parent, (ast.Compare, ast.BinOp)):
+        return True
+    return called(parent) in ("sorted", "len") and not parent.keywords
+
+
+def is_name_of_python(node):
+    return isinstance(node, ast.Name) and node.id in OWN_NAMES and not node.id[0].isupper()
+
+
+def stands_as_value(node, parent):
+    if isinstance(parent, ast.Call):
+        return parent.func is not node and called(parent) != "isinstance"
+    return not isinstance(parent, (ast.Tuple, ast.keyword))
+
+
+def walked_names(loop):
+    parts = [loop.iter]
+    if is_walked_thing(loop.iter):
+        parts = list(loop.iter.args)
+        if isinstance(loop.iter.func, ast.Attribute):
+            parts = [loop.iter.func.value]
+    return [ast.unparse(part) for part in parts if isinstance(part, (ast.Name, ast.Attribute, ast.Subscript))]
+
+
+def faults_of_loop(loop):
+    walked = walked_names(loop)
+    changed = []
+    for node in [node for part in loop.body for node in ast.walk(part)]:
+        if isinstance(node, ast.Call) and isinstance(node.func, ast.Attribute) and node.func.attr in CHANGES:
+            changed.append(ast.unparse(node.func.value))
+        if isinstance(node, ast.Subscript) and isinstance(node.ctx, ast.Store):
+            changed.append(ast.unparse(node.value))
+    return [("L23", name) for name in changed if name in walked]
+
+
+def faults_of_pair(node, parent):
+    faults = []
+    if is_walked_thing(node) and not is_walked_by(node, parent):
+        faults.append(("L23", ast.unparse(node)))
+    if called(node) == "set" and not is_set_on_the_spot(parent):
+        faults.append(("L24", ast.unparse(node)))
+    if is_name_of_python(node) and stands_as_value(node, parent):
+        faults.append(("L22", node.id))
+    if isinstance(node, ast.keyword) and node.arg not in KEYWORDS.get(called(parent), []):
+        faults.append(("L22", ast.unparse(parent)))
+    if isinstance(node, ast.ExceptHandler) and ast.unparse(node.type) in ("Exception", "TypeError"):
+        faults.append(("L19", ast.unparse(node.type)))
+    if isinstance(node, ast.Raise) and not isinstance(node.exc, ast.Call):
+        faults.append(("L19", ast.unparse(node)))
+    if isinstance(node, ast.FunctionDef) and node.returns is not None:
+        faults.append(("L21", node.name))
+    if isinstance(node, ast.For):
+        faults += faults_of_loop(node)
+    return faults
+
+
+def faults_of_pairs(tree):
+    faults = []
+    for parent in ast.walk(tree):
+        for node in ast.iter_child_nodes(parent):
+            faults += faults_of_pair(node, parent)
+    return faults
+
+
+def is_plain(node, within=()):
+    if isinstance(node, (ast.List, ast.Dict)) and within:
+        return False
+    if isinstance(node, (ast.List, ast.Tuple)):
+        return all(is_plain(part, (node,)) for part in node.elts)
+    if isinstance(node, ast.Dict):
+        return all(is_plain(part, (node,)) for part in node.keys + node.values)
+    if isinstance(node, ast.UnaryOp):
+        return is_plain(node.operand)
+    return isinstance(node, (ast.Constant, ast.Name))
+
+
+def drawn_from(tree):
+    return [node.module.split(".")[1] for node in tree.body if isinstance(node, ast.ImportFrom)]
+
+
+def defined_names(tree):
+    kinds = (ast.FunctionDef, ast.ClassDef)
+    names = [node.name for node in tree.body if isinstance(node, kinds)]
+    return names + [node.targets[0].id for node in tree.body if isinstance(node, ast.Assign)]
+
+
 def top_names(tree):
     names = []
     for node in tree.body:
@@ -218,6 +337,32 @@ class FormTest(unittest.TestCase):
                     self.assertEqual(place, 0, path.name)
                     self.assertIsInstance(node.value, ast.Constant)
 
+    def test_where_things_stand(self):
+        for path in package_files():
+            self.assertEqual(faults_of_pairs(tree_of(path)), [], path.name)
+
+    def test_plain_values_at_the_top(self):
+        for path in package_files():
+            for node in tree_of(path).body:
+                if isinstance(node, ast.Assign):
+                    self.assertTrue(is_plain(node.value), (path.name, ast.unparse(node)))
+
+    def test_imports_from_the_very_file(self):
+        defined = {path.stem: defined_names(tree_of(path)) for path in package_files()}
+        for path in package_files():
+            for node in tree_of(path).body:
+                if isinstance(node, ast.ImportFrom):
+                    for part in node.names:
+                        self.assertIn(part.name, defined[node.module.split(".")[1]], path.name)
+
+    def test_no_two_files_draw_from_one_another(self):
+        left = {path.stem: drawn_from(tree_of(path)) for path in package_files()}
+        while left:
+            free = [name for name in left if not any(other in left for other in left[name])]
+            self.assertNotEqual(free, [], sorted(left))
+            for name in free:
+                left.pop(name)
+
     def test_locals_hide_nothing(self):
         for path in package_files():
             tree = tree_of(path)
@@ -239,6 +384,18 @@ class FormTest(unittest.TestCase):
         for text in ("x = 1.5", "import os", "def f(*a):\n    pass", "a.sort()", "x = {n for n in y}", "del x", "_x = 1"):
             faults = [fault for node in ast.walk(ast.parse(text)) for fault in faults_of_node(node)]
             self.assertNotEqual(faults, [], text)
+
+    def test_a_fault_of_standing_is_seen(self):
+        wrong = ["x = range(3)", "f(zip(a, b))", "x = d.items()", "x = set(y)", "for n in set(y):\n    pass", "x = len"]
+        wrong += ["f(sorted)", "x = sorted(y, by=len)", "x = d.get(key=3)", "for n in x:\n    x.append(n)", "raise e"]
+        wrong += ["for k, n in enumerate(x):\n    x[k] = n", "for k in d.items():\n    d.pop(k)", "def f() -> int:\n    pass"]
+        wrong += ["for n in self.x:\n    self.x.clear()", "try:\n    f()\nexcept Exception:\n    pass"]
+        for text in wrong:
+            self.assertNotEqual(faults_of_pairs(ast.parse(text)), [], text)
+        right = ["x = list(range(3))", "x = dict(zip(a, b))", "for k, n in d.items():\n    pass", "x = len(set(y) - set(z))"]
+        right += ["x = max(y, key=len)", "for n in x:\n    y.append(n)", "for n in list(d):\n    d.pop(n)", "x = k in set(y)"]
+        for text in right:
+            self.assertEqual(faults_of_pairs(ast.parse(text)), [], text)
 
 
 if __name__ == "__main__":

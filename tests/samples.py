@@ -1,0 +1,108 @@
+"""Plans to try things on, and what the document says of rows, told in the plainest way."""
+
+import itertools
+import random
+
+from mustmay.plans import Plan
+
+SHUT = ("shut", None)
+NAMES = list("abcdefgh")
+
+
+def must(to):
+    return ("must", to)
+
+
+def may(to):
+    return ("may", to)
+
+
+def plan_of(rows):
+    return Plan(NAMES[:len(rows[0])], rows)
+
+
+def line_plan(many, door=may, last=SHUT):
+    """Rooms in a line, no two of them alike."""
+    return plan_of([[door(room + 1)] for room in range(many - 1)] + [[last]])
+
+
+def ring_plan(many, actions, door=may):
+    """All of its rooms are alike."""
+    return plan_of([[door((room + step + 1) % many) for step in range(actions)] for room in range(many)])
+
+
+def unlike_pairs():
+    """Plans whose lists of actions are not equal, in both orders."""
+    one = plan_of([[may(0), may(0)]])
+    lists = (["a"], ["b", "a"], ["a", "c"], ["a", "b", "c"])
+    others = [Plan(names, [[may(0)] * len(names)]) for names in lists]
+    return [(one, other) for other in others] + [(other, one) for other in others]
+
+
+def all_plans(rooms, actions):
+    doors = [SHUT] + [must(to) for to in range(rooms)] + [may(to) for to in range(rooms)]
+    rows = [list(row) for row in itertools.product(doors, repeat=actions)]
+    return [plan_of(list(told)) for told in itertools.product(rows, repeat=rooms)]
+
+
+def some_plans(seed, many, most_rooms, actions, words=("must", "may", "shut")):
+    chance = random.Random(seed)
+
+    def door(rooms):
+        word = chance.choice(words)
+        return SHUT if word == "shut" else (word, chance.randrange(rooms))
+
+    plans = []
+    while len(plans) < many:
+        rooms = chance.randint(1, most_rooms)
+        plans.append(plan_of([[door(rooms) for action in range(actions)] for room in range(rooms)]))
+    return plans
+
+
+def words_at(plan, room):
+    return [plan.door(room, action).word() for action in range(len(plan.action_list()))]
+
+
+def gone_rows(plan, longest, room=0):
+    """All rows that can be gone from a room, with the rooms they come to, the shortest and first ones first."""
+    level = [([], room)]
+    for length in range(longest + 1):
+        yield from level
+        level = [
+            (row + [action], plan.door(at, action).to)
+            for row, at in level
+            for action in range(len(plan.action_list()))
+            if plan.door(at, action).allows()
+        ]
+
+
+def told_apart(one, other, longest, room=0, place=0):
+    """The first row that both can go and behind which words differ, with the first such action."""
+    level = [([], room, place)]
+    for length in range(longest + 1):
+        for row, at, its in level:
+            mine, theirs = words_at(one, at), words_at(other, its)
+            for action, word in enumerate(mine):
+                if word != theirs[action]:
+                    return (row, action)
+        level = [
+            (row + [action], one.door(at, action).to, other.door(its, action).to)
+            for row, at, its in level
+            for action, word in enumerate(words_at(one, at))
+            if word != "shut"
+        ]
+    return None
+
+
+def is_within(one, other, longest):
+    """Promise 3, word by word, for the rows up to a length."""
+    for row, room in gone_rows(one, longest):
+        place = other.after(row)
+        if place is None:
+            return False
+        for mine, its in zip(words_at(one, room), words_at(other, place)):
+            if mine in ("must", "may") and its == "shut":
+                return False
+            if its == "must" and mine != "must":
+                return False
+    return True

@@ -1,0 +1,125 @@
+"""Plans as large as they may be: what is told, and that it is told in a time that one can wait for."""
+
+import random
+import time
+import unittest
+
+from mustmay.halls import fullest_hall, hall_along, hall_apart, least_hall, rooms_apart
+from mustmay.least import alike, classes, least, parting, reached
+from mustmay.pairs import is_table, row_apart, table_of, within
+from samples import SHUT, line_plan, may, must, plan_of, ring_plan
+
+MOST = 2000
+SECONDS = 60
+
+
+def random_plan(seed, many, actions):
+    chance = random.Random(seed)
+    doors = [SHUT] + [may(room) for room in range(many)] + [must(room) for room in range(many)]
+    return plan_of([[chance.choice(doors) for action in range(actions)] for room in range(many)])
+
+
+def mirrored_line(many):
+    """A line in which each room but the first also has seven doors back to the first one."""
+    rows = [[may(min(room + 1, many - 1))] + [may(0)] * 7 for room in range(many - 1)]
+    return plan_of(rows + [[must(0)] * 8])
+
+
+class LargeTest(unittest.TestCase):
+    def setUp(self):
+        self.began = time.monotonic()
+
+    def tearDown(self):
+        self.assertLess(time.monotonic() - self.began, SECONDS)
+
+
+class LeastTest(LargeTest):
+    def test_a_line(self):
+        for plan in (line_plan(MOST), line_plan(MOST, must), mirrored_line(MOST)):
+            self.assertEqual(reached(plan), list(range(MOST)))
+            self.assertEqual(classes(plan), list(range(MOST)))
+            self.assertEqual(least(plan).told(), plan.told())
+        self.assertEqual(parting(line_plan(MOST), 0, 1), ([0] * 1998, 0))
+        self.assertEqual(parting(mirrored_line(MOST), 0, 1), ([0] * 1998, 0))
+
+    def test_a_line_that_is_walked_from_its_end(self):
+        rows = [[must(0)]] + [[may(room - 1)] for room in range(1, MOST)]
+        self.assertEqual(classes(plan_of(rows)), list(range(MOST)))
+        self.assertEqual(parting(plan_of(rows), 1998, 1999), ([0] * 1998, 0))
+
+    def test_rings(self):
+        for actions in (1, 8):
+            plan = ring_plan(MOST, actions)
+            self.assertEqual(classes(plan), [0] * MOST)
+            self.assertEqual(least(plan).told(), [[may(0)] * actions])
+            for other in (1, 2, 777, 1999):
+                self.assertIsNone(parting(plan, 0, other))
+        self.assertIs(alike(ring_plan(2000, 8), ring_plan(1999, 8)), True)
+
+    def test_rings_of_two_kinds(self):
+        rows = [[may((room + 1) % MOST)] if room % 4 else [must(room + 1)] for room in range(MOST)]
+        self.assertEqual(classes(plan_of(rows)), [0, 1, 2, 3] * 500)
+        rows[1999] = [SHUT]
+        plan = plan_of(rows)
+        self.assertEqual(least(plan).many(), MOST)
+        self.assertEqual(parting(plan, 0, 4), ([0] * 1995, 0))
+
+    def test_plans_by_chance(self):
+        for actions in (1, 2, 8):
+            plan = random_plan(actions, MOST, actions)
+            small = least(plan)
+            self.assertIs(alike(plan, small), True)
+            self.assertEqual(least(small).told(), small.told())
+            firsts = classes(plan)
+            for room in range(0, MOST, 50):
+                self.assertIsNone(parting(plan, room, firsts[room]))
+                other = (room * 7 + 1) % MOST
+                self.assertEqual(parting(plan, room, other) is None, firsts[room] == firsts[other])
+
+
+class PairsTest(LargeTest):
+    def check_table(self, one, other, many):
+        table = table_of(one, other)
+        self.assertEqual(len(table), many)
+        self.assertEqual(table[:2], [(0, 0), (1, 1)])
+        self.assertEqual(len(set(table)), many)
+        self.assertIs(within(one, other), True)
+        self.assertIsNone(row_apart(one, other))
+        self.assertIs(is_table(one, other, table), True)
+        self.assertIs(is_table(one, other, table[:-1]), False)
+
+    def test_a_million_pairs(self):
+        self.check_table(ring_plan(1001, 8, must), ring_plan(999, 8), 1001 * 999)
+
+    def test_unlike_sizes(self):
+        self.check_table(ring_plan(499, 1), ring_plan(2000, 1), 2000 * 499)
+
+    def test_the_last_pair_alone_has_a_fault(self):
+        # Both actions lead on in both rings, so all pairs are come to before the two ends meet.
+        one = plan_of([[may((room + 1) % 1001), must((room + 1) % 1001)] for room in range(1000)] + [[may(0), SHUT]])
+        other = plan_of([[may(room + 1), may(room + 1)] for room in range(998)] + [[may(0), must(0)]])
+        self.assertEqual(row_apart(one, other), ([0] * (1001 * 999 - 1), 1, "lacks"))
+        self.assertIs(within(one, other), False)
+        self.assertIsNone(table_of(one, other))
+
+
+class HallsTest(LargeTest):
+    def test_large_plans(self):
+        plan = ring_plan(MOST, 8)
+        self.assertEqual(least_hall(plan).told(), [[SHUT] * 8] * MOST)
+        self.assertEqual(fullest_hall(plan).told(), ring_plan(MOST, 8, must).told())
+        hall = hall_along(plan, [7] * 1998, 3, True)
+        self.assertEqual(hall.many(), MOST)
+        self.assertIsNone(hall_apart(plan, ring_plan(1999, 8)))
+        self.assertIsNone(rooms_apart(plan, 3, 1999))
+
+    def test_halls_apart(self):
+        ring = ring_plan(MOST, 8)
+        other = plan_of([[may(room + 1)] * 8 for room in range(1998)] + [[SHUT] * 8])
+        hall, row, action = hall_apart(ring, other)
+        self.assertEqual((row, action, hall.many()), ([0] * 1998, 0, MOST))
+        self.assertIs(within(hall, least(ring)), True)
+
+
+if __name__ == "__main__":
+    unittest.main()
