@@ -3,9 +3,10 @@
 import itertools
 import random
 
-from mustmay.plans import Plan
+from mustmay.plans import Draft, Plan
 
 SHUT = ("shut", None)
+TORN = ("torn", None)
 NAMES = list("abcdefgh")
 
 
@@ -19,6 +20,10 @@ def may(to):
 
 def plan_of(rows):
     return Plan(NAMES[:len(rows[0])], rows)
+
+
+def draft_of(rows):
+    return Draft(NAMES[:len(rows[0])], rows)
 
 
 def line_plan(many, door=may, last=SHUT):
@@ -39,24 +44,53 @@ def unlike_pairs():
     return [(one, other) for other in others] + [(other, one) for other in others]
 
 
+def doubled(plan):
+    """A plan alike to another one, with a second room for each of its rooms, and one that no row comes to."""
+    many = plan.many()
+    rows = plan.told()
+    first = [[(word, None if to is None else to + many) for word, to in row] for row in rows]
+    return plan_of(first + rows + [[must(0) for name in plan.action_list()]])
+
+
+def all_rows(rooms, actions, doors):
+    rows = [list(row) for row in itertools.product(doors, repeat=actions)]
+    return [list(told) for told in itertools.product(rows, repeat=rooms)]
+
+
+def all_halls(rooms, actions):
+    return [plan_of(rows) for rows in all_rows(rooms, actions, [SHUT] + [must(to) for to in range(rooms)])]
+
+
 def all_plans(rooms, actions):
     doors = [SHUT] + [must(to) for to in range(rooms)] + [may(to) for to in range(rooms)]
-    rows = [list(row) for row in itertools.product(doors, repeat=actions)]
-    return [plan_of(list(told)) for told in itertools.product(rows, repeat=rooms)]
+    return [plan_of(rows) for rows in all_rows(rooms, actions, doors)]
 
 
-def some_plans(seed, many, most_rooms, actions, words=("must", "may", "shut")):
+def all_drafts(rooms, actions):
+    doors = [SHUT, TORN] + [must(to) for to in range(rooms)] + [may(to) for to in range(rooms)]
+    return [draft_of(rows) for rows in all_rows(rooms, actions, doors)]
+
+
+def some_rows(seed, many, most_rooms, actions, words):
     chance = random.Random(seed)
 
     def door(rooms):
         word = chance.choice(words)
-        return SHUT if word == "shut" else (word, chance.randrange(rooms))
+        return (word, None) if word in ("shut", "torn") else (word, chance.randrange(rooms))
 
-    plans = []
-    while len(plans) < many:
+    told = []
+    while len(told) < many:
         rooms = chance.randint(1, most_rooms)
-        plans.append(plan_of([[door(rooms) for action in range(actions)] for room in range(rooms)]))
-    return plans
+        told.append([[door(rooms) for action in range(actions)] for room in range(rooms)])
+    return told
+
+
+def some_plans(seed, many, most_rooms, actions, words=("must", "may", "shut")):
+    return [plan_of(rows) for rows in some_rows(seed, many, most_rooms, actions, words)]
+
+
+def some_drafts(seed, many, most_rooms, actions, words=("must", "must", "may", "may", "shut", "torn")):
+    return [draft_of(rows) for rows in some_rows(seed, many, most_rooms, actions, words)]
 
 
 def words_at(plan, room):
@@ -106,3 +140,25 @@ def is_within(one, other, longest):
             if its == "must" and mine != "must":
                 return False
     return True
+
+
+def fits(hall, draft):
+    """Whether a hall goes only where the draft lets it, has no door that the draft doesn't allow, and all it needs."""
+    left = [(0, 0)]
+    seen = set(left)
+    while left:
+        room, place = left.pop()
+        for action, word in enumerate(words_at(hall, room)):
+            door = draft.door(place, action)
+            if (word == "must" and not door.allows()) or (word == "shut" and door.needs()):
+                return False
+            pair = (hall.door(room, action).to, door.to)
+            if word == "must" and pair not in seen:
+                seen.add(pair)
+                left.append(pair)
+    return True
+
+
+def told_of(plan):
+    """What is told of a plan, or None for nothing."""
+    return None if plan is None else plan.told()

@@ -4,10 +4,14 @@ import random
 import time
 import unittest
 
+from mustmay.cleaning import cleaned, is_torn_row, torn_row
+from mustmay.errors import TooMany
 from mustmay.halls import fullest_hall, hall_along, hall_apart, least_hall, rooms_apart
 from mustmay.least import alike, classes, least, parting, reached
+from mustmay.meeting import meeting, met
 from mustmay.pairs import is_table, row_apart, table_of, within
-from samples import SHUT, line_plan, may, must, plan_of, ring_plan
+from mustmay.sides import beside
+from samples import SHUT, TORN, draft_of, fits, line_plan, may, must, plan_of, ring_plan
 
 MOST = 2000
 SECONDS = 60
@@ -119,6 +123,71 @@ class HallsTest(LargeTest):
         hall, row, action = hall_apart(ring, other)
         self.assertEqual((row, action, hall.many()), ([0] * 1998, 0, MOST))
         self.assertIs(within(hall, least(ring)), True)
+
+
+class CleaningTest(LargeTest):
+    def check_torn(self, draft, many):
+        rows = torn_row(draft)
+        self.assertEqual(len(rows), many)
+        self.assertEqual(rows, sorted(rows, key=lambda row: (row[1], row[0])))
+        self.assertIs(is_torn_row(draft, rows), True)
+        self.assertIs(is_torn_row(draft, rows[::-1] * 10), True)
+        self.assertIs(is_torn_row(draft, [row for row in rows if row[1] != 0]), False)
+
+    def test_a_line_of_must_doors(self):
+        draft = draft_of([[must(room + 1)] for room in range(MOST - 1)] + [[TORN]])
+        self.assertEqual(torn_row(draft), [(MOST - 1 - rank, rank, 0) for rank in range(MOST)])
+        self.check_torn(draft, MOST)
+        self.assertIsNone(cleaned(draft))
+
+    def test_a_line_of_may_doors(self):
+        draft = draft_of([[may(room + 1)] for room in range(MOST - 1)] + [[TORN]])
+        self.assertEqual(torn_row(draft), [(MOST - 1, 0, 0)])
+        self.assertEqual(cleaned(draft).told(), line_plan(MOST - 1).told())
+
+    def test_rings(self):
+        ring = ring_plan(MOST, 8, must)
+        self.assertEqual(torn_row(ring), [])
+        self.assertEqual(cleaned(ring).told(), [[must(0)] * 8])
+        rows = ring.told()
+        rows[1234][7] = TORN
+        self.check_torn(draft_of(rows), MOST)
+        self.assertIsNone(cleaned(draft_of(rows)))
+
+    def test_drafts_by_chance(self):
+        for actions in (1, 2, 8):
+            rows = random_plan(90 + actions, MOST, actions).told()
+            for room in range(1000):
+                rows[room] = [(word.replace("must", "may"), to) for word, to in rows[room]]
+            for room in range(1000, MOST, 150):
+                rows[room][-1] = TORN
+            draft = draft_of(rows)
+            torn = [row[0] for row in torn_row(draft)]
+            self.check_torn(draft, len(torn))
+            self.assertGreaterEqual(min(torn), 1000)
+            plan = cleaned(draft)
+            self.assertTrue(fits(least_hall(plan), draft))
+            self.assertTrue(fits(fullest_hall(plan), draft))
+
+
+class TwoPlansTest(LargeTest):
+    def test_small_least_plans(self):
+        self.assertEqual(met(ring_plan(MOST, 8), ring_plan(1999, 8, must)).told(), [[must(0)] * 8])
+        self.assertEqual(beside(ring_plan(MOST, 8), ring_plan(1999, 8, must)).told(), [[may(0)] * 8])
+
+    def test_too_many(self):
+        plans = (line_plan(MOST), line_plan(MOST, must))
+        for work in (meeting, met, beside):
+            with self.assertRaises(TooMany):
+                work(*plans)
+
+    def test_six_hundred_rooms(self):
+        plan = random_plan(99, 600, 8)
+        free = ring_plan(1, 8)
+        full = ring_plan(1, 8, must)
+        self.assertEqual(cleaned(meeting(plan, free)[0]).told(), least(plan).told())
+        self.assertEqual(met(plan, free).told(), least(plan).told())
+        self.assertEqual(beside(plan, full).told(), least(plan).told())
 
 
 if __name__ == "__main__":
