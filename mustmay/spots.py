@@ -45,8 +45,12 @@ def joint_door(needs, door, other):
     return door_of(needs, door.allows() and other.allows(), (door.to, other.to))
 
 
+def doors_between(one, other, pair, door_between):
+    return [door_between(door, its) for door, its in zip(one.rooms[pair[0]], other.rooms[pair[1]])]
+
+
 def paired(one, other, door_between):
     def doors_at(pair):
-        return [door_between(door, its) for door, its in zip(one.rooms[pair[0]], other.rooms[pair[1]])]
+        return doors_between(one, other, pair, door_between)
 
     return gone_through(doors_at)

@@ -4,6 +4,7 @@ import itertools
 import random
 
 from mustmay.plans import Draft, Plan
+from mustmay.texts import plan_text
 
 SHUT = ("shut", None)
 TORN = ("torn", None)
@@ -34,6 +35,16 @@ def line_plan(many, door=may, last=SHUT):
 def ring_plan(many, actions, door=may):
     """All of its rooms are alike."""
     return plan_of([[door((room + step + 1) % many) for step in range(actions)] for room in range(many)])
+
+
+def full_plan(actions):
+    """The plan in which all must be done."""
+    return Plan(actions, [[must(0) for name in actions]])
+
+
+def line_halls(longest):
+    """Up to being alike, all halls over one action with rows of up to a length, and the one without an end."""
+    return [line_plan(many, must) for many in range(1, longest + 2)] + [full_plan(["a"])]
 
 
 def unlike_pairs():
@@ -162,3 +173,8 @@ def fits(hall, draft):
 def told_of(plan):
     """What is told of a plan, or None for nothing."""
     return None if plan is None else plan.told()
+
+
+def rooms_of(plan):
+    """How a desk writes a plan, or nothing."""
+    return "nothing" if plan is None else "; ".join(plan_text(plan).split("\n")[1:])

@@ -5,13 +5,16 @@ import time
 import unittest
 
 from mustmay.cleaning import cleaned, is_torn_row, torn_row
+from mustmay.desk import Desk
+from mustmay.division import division, over, spoiler
 from mustmay.errors import TooMany
 from mustmay.halls import fullest_hall, hall_along, hall_apart, least_hall, rooms_apart
 from mustmay.least import alike, classes, least, parting, reached
 from mustmay.meeting import meeting, met
 from mustmay.pairs import is_table, row_apart, table_of, within
 from mustmay.sides import beside
-from samples import SHUT, TORN, draft_of, fits, line_plan, may, must, plan_of, ring_plan
+from mustmay.wishes import wish
+from samples import NAMES, SHUT, TORN, draft_of, fits, full_plan, line_plan, may, must, plan_of, ring_plan, rooms_of
 
 MOST = 2000
 SECONDS = 60
@@ -177,9 +180,11 @@ class TwoPlansTest(LargeTest):
 
     def test_too_many(self):
         plans = (line_plan(MOST), line_plan(MOST, must))
-        for work in (meeting, met, beside):
+        for work in (meeting, met, beside, division, over):
             with self.assertRaises(TooMany):
                 work(*plans)
+        with self.assertRaises(TooMany):
+            spoiler(*plans, plans[1])
 
     def test_six_hundred_rooms(self):
         plan = random_plan(99, 600, 8)
@@ -188,6 +193,91 @@ class TwoPlansTest(LargeTest):
         self.assertEqual(cleaned(meeting(plan, free)[0]).told(), least(plan).told())
         self.assertEqual(met(plan, free).told(), least(plan).told())
         self.assertEqual(beside(plan, full).told(), least(plan).told())
+        self.assertEqual(over(plan, full).told(), least(plan).told())
+        self.assertEqual(over(free, plan).told(), free.told())
+
+    def test_small_least_plans_of_divisions(self):
+        self.assertEqual(over(ring_plan(MOST, 8), ring_plan(1999, 8, must)).told(), [[may(0)] * 8])
+        self.assertIsNone(spoiler(ring_plan(MOST, 8), ring_plan(1999, 8), ring_plan(MOST, 8, must)))
+
+    def test_rings_divided(self):
+        # 600 pairs, none of them alike, and the free room.
+        whole = plan_of([[may((room + 1) % 24)] * 8 for room in range(23)] + [[may(0)] * 7 + [SHUT]])
+        part = plan_of([[may((room + 1) % 25)] * 8 for room in range(24)] + [[may(0)] * 6 + [SHUT, may(0)]])
+        draft, pairs = division(whole, part)
+        self.assertEqual((draft.many(), pairs.count(None)), (601, 1))
+        self.assertEqual(over(whole, part).many(), 601)
+
+    def test_spoilers(self):
+        # Both are at their last rooms once in 44 * 43 steps.
+        whole = plan_of([[may((room + 1) % 44)] * 8 for room in range(43)] + [[may(0)] * 7 + [SHUT]])
+        part = plan_of([[may((room + 1) % 43)] * 7 + [SHUT] for room in range(42)] + [[may(0)] * 8])
+        hall = full_plan(NAMES)
+        other, row, action = spoiler(whole, part, hall)
+        self.assertEqual((row, action), ([0] * (44 * 43 - 1), 7))
+        self.assertTrue(fits(other, part))
+        self.assertEqual(whole.after(row), 43)
+        self.assertEqual(other.door(other.after(row), 7).word(), "must")
+
+    def test_wishes(self):
+        told = wish(NAMES, "at most 6 a and at most 6 h and at most 6 d")
+        self.assertEqual(told.many(), 343)
+        self.assertEqual(wish(NAMES, "at most 6 a and at most 6 h and next h after d").many(), 91)
+
+
+class DeskTest(LargeTest):
+    def ring(self, many, word):
+        rows = [[(word, (room + 1) % many)] * 8 for room in range(many)]
+        rows[-1][-1] = SHUT
+        return rooms_of(plan_of(rows))
+
+    def test_forty_names_and_forty_claims(self):
+        desk = Desk(NAMES)
+        desk.say(f"plan p {self.ring(24, 'may')}")
+        desk.say(f"plan q {self.ring(25, 'may')}")
+        desk.say("wish w at most 6 a and at most 6 b and at most 6 c")
+        names = [one + two for one in "defg" for two in "abcdefghij"][:37]
+        for place, name in enumerate(names):
+            work = ("meet", "beside", "over")[place % 3]
+            self.assertEqual(desk.say(f"{work} {name} p q"), "ok")
+        for place, name in enumerate(names):
+            word = ("within", "alike", "within", "within")[place % 4]
+            self.assertEqual(desk.say(f"claim {word} {name} {names[place - 1]}"), str(place + 1))
+        for name in ("w", "p", "q"):
+            desk.say(f"claim some {name}")
+        self.assertEqual(len(desk.say("names").split(" ")), 40)
+        told = desk.say("claims").split("; ")
+        self.assertEqual(len(told), 40)
+        for time in range(3):
+            desk.say(f"change p {self.ring(23, 'must')}")
+            desk.say("claims")
+            desk.say(f"change p {self.ring(24, 'may')}")
+            self.assertEqual(desk.say("claims").split("; "), told)
+
+    def test_each_made_of_all_below(self):
+        # Reckoned name by name: gone over anew at each place where it is leant on there would be two to the 38th.
+        desk = Desk(NAMES)
+        desk.say(f"plan p {self.ring(24, 'may')}")
+        last = ["p", "p"]
+        for one in "abcd":
+            for two in "abcdefghi":
+                desk.say(f"meet {one}{two} {last[-1]} {last[-2]}")
+                last.append(one + two)
+        self.assertEqual(desk.say(f"claim alike {last[-1]} p"), "1")
+        self.assertEqual(desk.say("claims"), "1 yes")
+        desk.say("change p x: a may x, b may y; y: a must x")
+        self.assertEqual(desk.say(f"show {last[-1]}"), "r0: a may r0, b may r1; r1: a must r0")
+        self.assertEqual(desk.say(f"alike {last[-1]} p"), "yes")
+
+    def test_long_lines(self):
+        desk = Desk(["a"])
+        names = [f"{one}{two}" for one in "abcdefghijklmnopqrst" for two in "abcdefghijklmnopqrstuvwxyz0123456789"]
+        text = "; ".join(f"{name}:" for name in names)
+        self.assertGreater(len(text), 3500)
+        self.assertEqual(desk.say(f"plan p {text}"), "ok")
+        self.assertEqual(desk.say("show p").count(":"), 720)
+        self.assertEqual(desk.say("within p p"), "yes")
+        self.assertEqual(desk.say("after p" + " a" * 1990), "none")
 
 
 if __name__ == "__main__":
