@@ -47,21 +47,15 @@ def room_number(word):
     return int(word[1:])
 
 
-def need_door(rows, room, action, to):
-    if room >= len(rows):
-        raise BadPlan(room, -1)
-    if to is not None and to >= len(rows):
-        raise BadPlan(room, action)
-
-
 def change_door(kept, words):
     rows = kept.plan_by(words[1]).told()
     room = room_number(words[2])
-    action = kept.actions.index(words[3])
+    if room >= len(rows):
+        raise BadPlan(room, -1)
     to = None if words[4] == "shut" else room_number(words[5])
-    need_door(rows, room, action, to)
-    rows[room][action] = (words[4], to)
-    kept.keep(words[1], Told(Plan(list(kept.actions), rows)))
+    rows[room][kept.actions.index(words[3])] = (words[4], to)
+    # Should the door lead to a room that is not there, the plan refuses it in just this place.
+    kept.keep(words[1], Told(Plan(kept.actions, rows)))
     return DONE
 
 

@@ -210,6 +210,15 @@ class TextTest(RefusalTest):
             self.refused(f"plan new {text}", NoText, line=line)
             self.refused(f"change p {text}", NoText, line=line)
 
+    def test_all_signs_of_a_line(self):
+        # From the blank to the tilde: they are signs of a line, though no text has some of them.
+        signs = "".join(map(chr, range(32, 127)))
+        for text in (signs, "~", "!", signs[::-1]):
+            self.refused(f"plan new {text}", NoText, line=1)
+            self.refused(f"change p x:; {text}", NoText, line=2)
+        for text in (signs[1:], "~", "!"):
+            self.refused(f"wish new {text}", NoWish, place=0)
+
     def test_the_word_actions_may_name_a_room(self):
         desk = begun()
         self.assertEqual(desk.say("plan new actions: a must actions"), "ok")

@@ -43,6 +43,7 @@ WALKED = ["zip", "enumerate", "reversed", "range"]
 WALKED_METHODS = ["items", "keys", "values"]
 WALKERS = ["list", "tuple", "dict", "sorted", "sum", "any", "all", "enumerate", "zip"]
 CHANGES = ["append", "clear", "extend", "insert", "pop", "remove", "reverse", "setdefault", "update"]
+FREE_VALUES = ["count", "index", "title", "find", "get", "join", "lower", "upper", "split", "strip", "copy", "add"]
 KINDS = (str, int, list, dict, tuple, set, bytes)
 METHODS_OF_PYTHON = {name for kind in KINDS for name in dir(kind)}
 
@@ -309,6 +310,50 @@ def local_names(tree):
                     yield node.id
 
 
+def own_names(tree):
+    """The methods and the values of a file's classes."""
+    kinds = [node for node in tree.body if isinstance(node, ast.ClassDef)]
+    methods = [part.name for kind in kinds for part in kind.body if isinstance(part, ast.FunctionDef)]
+    stored = [node for node in ast.walk(tree) if isinstance(node, ast.Attribute) and isinstance(node.ctx, ast.Store)]
+    return methods, [node.attr for node in stored]
+
+
+def faults_of_own_names(tree):
+    methods, values = own_names(tree)
+    free_methods = OWN_METHODS | {"add", "discard"} | set(UNDERSCORED)
+    faults = [("L26", name) for name in methods if name in METHODS_OF_PYTHON and name not in free_methods]
+    return faults + [("L26", name) for name in values if name in METHODS_OF_PYTHON and name not in FREE_VALUES]
+
+
+def faults_of_classes(tree, kinds):
+    faults = []
+    for parent in ast.walk(tree):
+        for node in ast.iter_child_nodes(parent):
+            if not isinstance(node, ast.Name) or node.id not in kinds:
+                continue
+            stands = isinstance(parent, (ast.ClassDef, ast.ExceptHandler)) or called(parent) == "isinstance"
+            stands = stands or (isinstance(parent, ast.Call) and parent.func is node)
+            if not stands and not (isinstance(parent, ast.Attribute) and parent.attr == "__init__"):
+                faults.append(("L18", node.id))
+    return faults
+
+
+def faults_of_kept_things(tree):
+    """Lists and dicts of a file's top that are not read by an index, a walk, in, len or get."""
+    top = [node for node in tree.body if isinstance(node, ast.Assign) and isinstance(node.value, (ast.List, ast.Dict))]
+    names = [node.targets[0].id for node in top]
+    faults = []
+    for parent in ast.walk(tree):
+        for node in ast.iter_child_nodes(parent):
+            if isinstance(node, ast.Name) and node.id in names and isinstance(node.ctx, ast.Load):
+                read = isinstance(parent, ast.Subscript) and parent.value is node and isinstance(parent.ctx, ast.Load)
+                read = read or isinstance(parent, (ast.Compare, ast.For, ast.comprehension))
+                read = read or called(parent) in ("len", "list", "dict", "sorted")
+                if not read and not (isinstance(parent, ast.Attribute) and parent.attr == "get"):
+                    faults.append(("L15", node.id))
+    return faults
+
+
 class FormTest(unittest.TestCase):
     def test_files(self):
         names = [path.name for path in PACKAGE.iterdir() if path.name != "__pycache__"]
@@ -379,6 +424,28 @@ class FormTest(unittest.TestCase):
                 if isinstance(node, ast.Attribute) and isinstance(node.ctx, ast.Store):
                     values.add(node.attr)
         self.assertEqual(sorted(methods & values), [])
+
+    def test_own_names_are_free(self):
+        for path in package_files():
+            self.assertEqual(faults_of_own_names(tree_of(path)), [], path.name)
+
+    def test_where_classes_stand(self):
+        trees = {path.name: tree_of(path) for path in package_files()}
+        kinds = [node.name for tree in trees.values() for node in tree.body if isinstance(node, ast.ClassDef)]
+        for name, tree in trees.items():
+            self.assertEqual(faults_of_classes(tree, kinds), [], name)
+
+    def test_what_is_kept_at_the_top_is_only_read(self):
+        for path in package_files():
+            self.assertEqual(faults_of_kept_things(tree_of(path)), [], path.name)
+
+    def test_a_fault_of_classes_and_kept_things_is_seen(self):
+        for text in ("x = [K]", "f(K)", "K.x = 3", "x = K if y else None"):
+            self.assertNotEqual(faults_of_classes(ast.parse(text), ["K"]), [], text)
+        for text in ("class K:\n    def sort(self):\n        pass", "x.items = 3", "x.real = 3"):
+            self.assertNotEqual(faults_of_own_names(ast.parse(text)), [], text)
+        for text in ("D = {}\ndef f():\n    D[3] = 4", "D = []\ndef f():\n    return D", "D = []\ndef f():\n    D.append(3)"):
+            self.assertNotEqual(faults_of_kept_things(ast.parse(text)), [], text)
 
     def test_a_fault_is_seen(self):
         for text in ("x = 1.5", "import os", "def f(*a):\n    pass", "a.sort()", "x = {n for n in y}", "del x", "_x = 1"):

@@ -179,6 +179,13 @@ class DemandTest(unittest.TestCase):
                 wanted = wish(plain, " ".join(filled(form, "a", "b", "3"))).told()
                 self.assertEqual(wish(LIKE_WORDS, text).told(), wanted, text)
 
+    def test_names_like_words_of_doors(self):
+        names = ["may", "shut", "must"]
+        self.assertEqual(wish(names, "at most 1 shut").told(), [[may(0), may(1), may(0)], [may(1), SHUT, may(1)]])
+        self.assertEqual(wish(names, "at most 1 may").told(), [[may(1), may(0), may(0)], [SHUT, may(1), may(1)]])
+        self.assertEqual(wish(names, "never must after may").told(), [[may(1), may(0), may(0)], [may(1), may(1), SHUT]])
+        self.assertEqual(wish(names, "always may and never shut").told(), [[must(0), SHUT, may(0)]])
+
     def test_names_like_words_in_several_demands(self):
         told = wish(LIKE_WORDS, "never and and never after after and and at most 0 at").told()
         # never and; never after after and; at most 0 at.
